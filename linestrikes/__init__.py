@@ -1,0 +1,1 @@
+"""Linestrikes: rules that solve line puzzles, judged for lines of every length."""

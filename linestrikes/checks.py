@@ -1,0 +1,34 @@
+"""What many of the modules ask of the values that they are passed."""
+
+from linestrikes.errors import Unlike
+
+
+def is_from(value, low, high):
+    """Whether any value is an integer from low to high."""
+    return isinstance(value, int) and not isinstance(value, bool) and low <= value <= high
+
+
+def is_row(value, fewest, most):
+    """Whether any value is a list or a tuple with so many items."""
+    return isinstance(value, (list, tuple)) and fewest <= len(value) <= most
+
+
+def is_letter_of(letters, value):
+    """Whether any value is one of the letters of a string."""
+    return isinstance(value, str) and len(value) == 1 and value in letters
+
+
+def wrong_letter(letters, word):
+    """The index of the first sign of a word that is none of the letters, 0 for what is no string, otherwise None."""
+    if not isinstance(word, str):
+        return 0
+    for at, letter in enumerate(word):
+        if letter not in letters:
+            return at
+    return None
+
+
+def same_values(one, other):
+    """Refuses two things that are used together if their values are not equal."""
+    if one.alphabet != other.alphabet:
+        raise Unlike("values")
