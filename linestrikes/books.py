@@ -26,7 +26,7 @@ class Book(Striker):
         """The book of a list or tuple of rules."""
         if not isinstance(rules, (list, tuple)):
             raise BadBook(None)
-        return cls(values, *rules)
+        return Book(values, *rules)
 
     @property
     def rules(self):
@@ -39,26 +39,26 @@ class Book(Striker):
     def __iter__(self):
         return iter(self.kept)
 
-    def __getitem__(self, number):
-        if not is_from(number, 0, len(self.kept) - 1):
-            raise NoRule(number)
-        return self.kept[number]
+    def __getitem__(self, at):
+        if not is_from(at, 0, len(self.kept) - 1):
+            raise NoRule(at)
+        return self.kept[at]
 
-    def __contains__(self, rule):
-        return isinstance(rule, Rule) and rule in self.kept
+    def __contains__(self, x):
+        return x in self.kept
 
     def __eq__(self, other):
         return isinstance(other, Book) and self.alphabet == other.alphabet and self.kept == other.kept
 
-    def __add__(self, rule):
-        longer = [*self.kept, rule]
+    def __add__(self, other):
+        longer = [*self.kept, other]
         return Book(self.alphabet, *longer)
 
-    def __sub__(self, rule):
-        if not isinstance(rule, Rule) or rule not in self.kept:
-            raise NoRule(rule)
-        others = [one for one in self.kept if one != rule]
-        return Book(self.alphabet, *others)
+    def __sub__(self, other):
+        if other not in self.kept:
+            raise NoRule(other)
+        rest = [rule for rule in self.kept if rule != other]
+        return Book(self.alphabet, *rest)
 
     def __or__(self, other):
         same_values(self, other)
@@ -72,8 +72,8 @@ class Book(Striker):
     def renamed(self, names):
         """The book with other letters."""
         values = self.alphabet.renamed(names)
-        others = [rule.renamed(names) for rule in self.kept]
-        return Book(values, *others)
+        rules = [rule.renamed(names) for rule in self.kept]
+        return Book(values, *rules)
 
     def first_strike(self, numbers, start):
         """The first strike of a line in which none is ahead of the place start; None if there is none."""

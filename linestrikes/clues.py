@@ -33,8 +33,8 @@ class Clue:
     def __call__(self, word):
         return self.told[self.state(word)]
 
-    def __contains__(self, word):
-        return wrong_letter(self.alphabet.letters, word) is None and self.told[self.state(word)]
+    def __contains__(self, x):
+        return wrong_letter(self.alphabet.letters, x) is None and self.told[self.state(x)]
 
     def __bool__(self):
         return True in self.told

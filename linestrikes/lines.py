@@ -92,21 +92,21 @@ class Line(Narrower):
             raise NoCell(at)
         return self.held[at]
 
-    def __setitem__(self, at, cell):
+    def __setitem__(self, at, worth):
         if not is_from(at, 0, len(self.held) - 1):
             raise NoCell(at)
-        taken = cell_from(self.alphabet, cell)
+        taken = cell_from(self.alphabet, worth)
         if taken is None:
-            raise BadCell(cell)
+            raise BadCell(worth)
         both = self.held[at] & taken
         if not both.letters:
             raise Clash(at)
         self.held = self.held[:at] + (both,) + self.held[at + 1:]
 
-    def __contains__(self, word):
-        if not isinstance(word, str) or len(word) != len(self.held):
+    def __contains__(self, x):
+        if not isinstance(x, str) or len(x) != len(self.held):
             return False
-        return all([letter in cell.letters for letter, cell in zip(word, self.held)])
+        return all([letter in cell.letters for letter, cell in zip(x, self.held)])
 
     def __eq__(self, other):
         return isinstance(other, Line) and self.alphabet == other.alphabet and self.held == other.held
@@ -122,10 +122,9 @@ class Line(Narrower):
         return Line(self.alphabet, [mine | their for mine, their in zip(self.held, other.held)])
 
     def __iand__(self, other):
-        # A narrower may stop halfway with an error, so a copy is narrowed first.
-        narrow = self.copy()
-        other.narrowed(narrow)
-        self.held = narrow.held
+        # A narrower may stop halfway with an error.
+        with Attempt(self):
+            other.narrowed(self)
         return self
 
     def __neg__(self):
@@ -182,6 +181,22 @@ class Guess:
     def __exit__(self, kind, value, trace):
         line = self.line
         line.held = self.kept
+
+
+class Attempt:
+    """Gives a line back the cells that it had when the block began, if an error left the block."""
+
+    def __init__(self, line):
+        self.line = line
+        self.kept = line.held
+
+    def __enter__(self):
+        return self.line
+
+    def __exit__(self, kind, value, trace):
+        line = self.line
+        if kind is not None:
+            line.held = self.kept
 
 
 def same_form(one, other):

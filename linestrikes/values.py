@@ -20,8 +20,8 @@ class Values:
     def __len__(self):
         return len(self.letters)
 
-    def __contains__(self, letter):
-        return is_letter_of(self.letters, letter)
+    def __contains__(self, x):
+        return is_letter_of(self.letters, x)
 
     def __eq__(self, other):
         return isinstance(other, Values) and self.letters == other.letters
@@ -86,8 +86,8 @@ class Cell:
     def __iter__(self):
         return iter(self.letters)
 
-    def __contains__(self, letter):
-        return is_letter_of(self.letters, letter)
+    def __contains__(self, x):
+        return is_letter_of(self.letters, x)
 
     def __str__(self):
         return str(self.letters or ".")

@@ -135,6 +135,15 @@ class Joining(Checks, unittest.TestCase):
                 self.raises(TooMany("states", 64), lambda: -clue)
         self.raises(TooMany("states", 64), lambda: -nth_letter(ABCD, 9))
 
+    def test_a_mirrored_clue_of_millions_of_states_is_refused_at_once(self):
+        some = Every(ABCD)
+        for k in range(3):
+            steps = [[(state + 1) % 7] * 4 for state in range(7)] + [[7] * 4]
+            steps[6][k] = 7
+            some &= Machine(ABCD, steps, [False] * 7 + [True])
+        self.exactly(len(some), 50)
+        self.raises(TooMany("states", 64), lambda: -some)
+
     def test_a_refused_sign_leaves_the_name(self):
         clue = one = Modulo(XO, "x", 60)
         with self.assertRaises(TooMany):
