@@ -98,3 +98,15 @@ class Book(Striker):
         """The error that tells of a strike that would leave an empty cell."""
         place, number = strike
         return Struck(place, number)
+
+    def struck_behind(self, numbers, is_start, is_end):
+        """The sum of 2 ** number over the rules that strike in a window that ends with these cells.
+
+        These are with is_end the rules of the right end, otherwise all others.
+        """
+        found = 0
+        for number, rule in enumerate(self.kept):
+            if rule.right == is_end and (is_start or not rule.left):
+                if rule.hits_at(numbers, len(numbers) - len(rule.wanted)):
+                    found += 1 << number
+        return found

@@ -1,11 +1,18 @@
 """What many of the modules ask of the values that they are passed."""
 
-from linestrikes.errors import Unlike
+from linestrikes.errors import BadNumber, Unlike
+
+GREATEST_MOST = 4000
+
+
+def is_integer(value):
+    """Whether any value is an integer."""
+    return isinstance(value, int) and not isinstance(value, bool)
 
 
 def is_from(value, low, high):
     """Whether any value is an integer from low to high."""
-    return isinstance(value, int) and not isinstance(value, bool) and low <= value <= high
+    return is_integer(value) and low <= value <= high
 
 
 def is_row(value, fewest, most):
@@ -32,3 +39,9 @@ def same_values(one, other):
     """Refuses two things that are used together if their values are not equal."""
     if one.alphabet != other.alphabet:
         raise Unlike("values")
+
+
+def refuse_wrong_most(most):
+    """Raises BadNumber for any value that no most behind a star may be."""
+    if not is_from(most, 1, GREATEST_MOST):
+        raise BadNumber("most")

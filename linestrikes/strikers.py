@@ -7,7 +7,7 @@ from linestrikes.values import numbers_of
 
 
 class Striker(Narrower):
-    """The base of all strikers. A class below it tells its strikes, all of a line or the first one, by four methods.
+    """The base of all strikers. A class below it tells by five methods what it strikes.
 
     A line is told by the numbers of its cells, a strike by what strikes yields for it.
     """
@@ -31,6 +31,14 @@ class Striker(Narrower):
     def cause_of(self, strike):
         """The error that tells of a strike that would leave an empty cell."""
         raise NotImplementedError("each kind of striker has its own causes")
+
+    def struck_behind(self, numbers, is_start, is_end):
+        """What strikes in the windows that end with the last cells of a line so far; 0 if nothing does.
+
+        The cells are all cells of the line so far if is_start is True, otherwise as many as the width at least. With
+        is_end that is told which strikes only because the line ends with them, otherwise what strikes in any case.
+        """
+        raise NotImplementedError("each kind of striker has its own windows")
 
     def is_stable(self, line):
         """Whether nothing strikes."""

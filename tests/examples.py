@@ -144,13 +144,67 @@ raises Clash(2) from Struck(1, 0)
 """
 
 TRAILS = """
+>>> from linestrikes.check_trails import shows_clash, shows_left
 >>> from linestrikes.trails import trail
 >>> bad = Line(values, ["xo", "x", "x"])
->>> [trail(pair, bad).done, trail(pair, bad).left, trail(pair, bad).clash]
-[((0, 1), (1, 0)), None, 2]
+>>> [trail(pair, bad).done, trail(pair, bad).left, trail(pair, bad).clash, shows_clash(pair, bad, [(1, 0)])]
+[((0, 1), (1, 0)), None, 2, True]
 >>> open_one = Line(values, ["xo", "x", "xo", "xo"])
->>> trail(pair, open_one).left == line
-True
+>>> [shows_left(pair, open_one, ((1, 0), (0, 1)), line), shows_left(pair, open_one, ((1, 0),), line)]
+[True, False]
 """
 
-SECTIONS = [VALUES, LINES, KINDS, RULES, BOOKS, TRAILS]
+STABLE = """
+>>> from linestrikes.stable import join, stable_lines
+>>> some = list(stable_lines(pair, Line(values, ["xo", "xo"])))
+>>> [str(one) for one in some]
+['x o', 'o x', 'o o', 'o xo', 'xo o', 'xo xo']
+>>> str(join(some[:2]))
+'xo xo'
+"""
+
+SUPPORTS = """
+>>> from linestrikes.supports import barring, count_words, judged_left, left_by, right_words
+>>> from linestrikes.check_supports import shows_barred, shows_left_by
+>>> line = Line(values, ["xo", "x", "xo", "xo"])
+>>> [count_words(apart, line), list(right_words(apart, line)), str(left_by(apart, line))]
+[2, ['oxox', 'oxoo'], 'o x o xo']
+>>> [barring(apart, line), barring(apart, line, 2, "x")]
+[None, ((0,), (0, 1), (1, 2), (2,), (2,))]
+>>> shows_barred(apart, line, ((0,), (0, 1), (0, 1, 2), (2,), (2,)), 2, "x")
+False
+>>> found = judged_left(apart, line)
+>>> [len(found.shown), found.barred[0], shows_left_by(apart, line, found.line, found.shown, found.barred)]
+[5, ((0,), (1,), (2,), (2,), (2,)), True]
+>>> none = judged_left(two, Line(values, ["x"]))
+>>> [bool(none), none.line, none.shown, none.barred]
+[False, None, (), (((0,), (1,)),)]
+"""
+
+SOUND = """
+>>> from linestrikes.sound import is_sound_rule, judge_sound
+>>> [apart.steps, apart.told]
+[((1, 0), (2, 0), (2, 2)), (True, True, False)]
+>>> judge_sound(pair, apart).paper()
+('sound', (2,), (((0, 1, 2), (1, 2), (2,)), ((0, 1, 2), (1, 2), (2,))))
+>>> judge_sound(Book(values, Rule(values, ["xo"], 0, "x")), apart).paper()
+('unsound', 'x', 0, 0)
+"""
+
+COMPLETE = """
+>>> from linestrikes.complete import judge_complete, judge_exact
+>>> half = Book(values, Rule(values, ["x", "xo"], 1, "x"))
+>>> [judge_exact(pair, apart).kind, bool(judge_complete(half, apart)), judge_complete(half, apart).paper()]
+['exact', False, ('incomplete', (3, 1), 0, 'x', ((0,), (1,), (2,)))]
+"""
+
+COMPARE = """
+>>> from linestrikes.compare import alike, judge_stronger, keepers, needless, parting, trimmed
+>>> [alike(pair, half), str(parting(pair, half)), judge_stronger(pair, half).kind, judge_stronger(half, pair).paper()]
+[False, 'xo x', 'stronger', ('parted', (3, 1))]
+>>> more = pair + Rule(values, ["x", "x"], 1, "x")
+>>> [needless(more), trimmed(more) == pair, [str(one) for one in keepers(pair)]]
+[(2,), True, ['x xo', 'xo x']]
+"""
+
+SECTIONS = [VALUES, LINES, KINDS, RULES, BOOKS, TRAILS, STABLE, SUPPORTS, SOUND, COMPLETE, COMPARE]

@@ -210,3 +210,26 @@ class Dice:
         many = 1 + self.below(most)
         steps = [[self.below(many) for _ in values.letters] for _ in range(many)]
         return Machine(values, steps, [self.below(2) == 0 for _ in range(many)]), steps
+
+
+ODD_ONES = [None, True, False, 0, 1, -1, 2, "x", "", (), [], (0,), ((),), {}, 10 ** 59, "0", XO, XO.full]
+
+
+def mutants(thing):
+    """Values like this one, each with one change somewhere in it."""
+    yield from [odd for odd in ODD_ONES if not exact(odd, thing)]
+    if type(thing) is int:
+        yield from [thing + 1, thing - 1, str(thing)]
+    if isinstance(thing, str):
+        yield from [thing + "x", thing[1:], "o" + thing, thing[::-1], thing.upper(), list(thing)]
+    if isinstance(thing, (tuple, list)):
+        kind = type(thing)
+        yield list(thing) if kind is tuple else tuple(thing)
+        yield thing[::-1]
+        yield thing + kind([0])
+        for k, item in enumerate(thing):
+            yield thing[:k] + thing[k + 1:]
+            yield thing[:k] + kind([item]) + thing[k:]
+            yield thing[:k] + thing[k + 1:k + 2] + kind([item]) + thing[k + 2:]
+            for other in mutants(item):
+                yield thing[:k] + kind([other]) + thing[k + 1:]

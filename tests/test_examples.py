@@ -1,3 +1,4 @@
+import pathlib
 import unittest
 
 from tests.examples import SECTIONS, run_examples
@@ -10,6 +11,17 @@ class Examples(unittest.TestCase):
         for text in SECTIONS:
             with self.subTest(text.strip().split("\n")[0]):
                 self.assertEqual(run_examples(text, names), [])
+
+    def test_examples_of_the_readme(self):
+        text = (pathlib.Path(__file__).resolve().parent.parent / "README.md").read_text(encoding="utf-8")
+        blocks = [block.partition("\n")[2] for block in text.split("```")[1::2]]
+        names = {}
+        many = 0
+        for block in blocks:
+            if block.startswith(">>> "):
+                self.assertEqual(run_examples(block, names), [])
+                many += 1
+        self.assertEqual(many, 2)
 
     def test_a_wrong_example_is_found(self):
         self.assertEqual(len(run_examples(">>> 1 + 1\n3\n>>> 2\n2\n>>> True\n1", {})), 2)

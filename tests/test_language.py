@@ -1,3 +1,4 @@
+import inspect
 import pathlib
 import tempfile
 import unittest
@@ -70,6 +71,11 @@ class Interface(unittest.TestCase):
             ("books", "Book"): "__init__ of rules __len__ __getitem__ __contains__ __iter__ __eq__ __add__ __sub__ __or__ "
                                "__neg__ renamed",
             ("trails", "Trail"): "__init__",
+            ("supports", "Left"): "__init__ __bool__",
+            ("sound", "Judgement"): "__bool__ __eq__ paper", ("sound", "Shown"): "__bool__",
+            ("sound", "Sound"): "__init__", ("sound", "Unsound"): "__init__",
+            ("complete", "Complete"): "__init__", ("complete", "Incomplete"): "__init__", ("complete", "Exact"): "__init__",
+            ("compare", "Stronger"): "__init__", ("compare", "Parted"): "__init__",
         }
         for (stem, name), methods in told.items():
             module = __import__(f"linestrikes.{stem}", fromlist=[name])
@@ -79,8 +85,29 @@ class Interface(unittest.TestCase):
                 self.assertIn(method, vars(made), name)
 
     def test_functions_stand_in_their_files(self):
-        from linestrikes.trails import trail
-        self.assertEqual(trail.__module__, "linestrikes.trails")
+        """Each with its parameters; those behind a star are passed by name alone."""
+        told = {
+            "trails": ["trail(book, line)"],
+            "check_trails": ["shows_left(book, line, strikes, left)", "shows_clash(book, line, strikes)"],
+            "stable": ["stable_lines(striker, line, *, most=4000)", "join(lines)"],
+            "supports": ["count_words(clue, line)", "right_words(clue, line)", "left_by(clue, line)",
+                         "barring(clue, line, place=None, value=None)", "judged_left(clue, line)"],
+            "check_supports": ["shows_barred(clue, line, sets, place=None, value=None)",
+                               "shows_left_by(clue, line, left, words, barred)"],
+            "sound": ["judge_sound(book, clue)", "is_sound_rule(rule, clue)"],
+            "check_sound": ["shows_sound(book, clue, thing)", "shows_unsound(book, clue, thing)"],
+            "complete": ["judge_complete(striker, clue, *, most=4000)", "judge_exact(striker, clue, *, most=4000)"],
+            "check_complete": ["shows_complete(striker, clue, thing)", "shows_incomplete(striker, clue, thing)",
+                               "shows_exact(striker, clue, thing)"],
+            "compare": ["judge_stronger(one, other, *, most=4000)", "parting(one, other, *, most=4000)",
+                        "alike(one, other, *, most=4000)", "needless(book)", "trimmed(book)", "keepers(book)"],
+        }
+        for stem, headings in told.items():
+            for heading in headings:
+                name = heading.partition("(")[0]
+                found = getattr(__import__(f"linestrikes.{stem}", fromlist=[name]), name)
+                self.assertEqual(found.__module__, f"linestrikes.{stem}")
+                self.assertEqual(name + str(inspect.signature(found)), heading)
 
 
 if __name__ == "__main__":
