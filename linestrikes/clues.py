@@ -2,30 +2,22 @@
 
 from linestrikes.checks import is_from, is_row, same_values, wrong_letter
 from linestrikes.errors import BadClue, BadMachine, BadNumber, BadValues, BadWord
-from linestrikes.machines import first_words, least_machine, mirrored_machine, paired_machine
+from linestrikes.machines import first_words, joined_machine, least_machine, leads_within, mirrored_machine
 from linestrikes.spelling import each_word, word_total
 from linestrikes.values import Values
 
 LONGEST_WORD = 1000
 
-# For two clues whether a word is right for the joined one: if it is right for none, for the second one alone, for the
-# first one alone, for both.
-FOR_BOTH = (False, False, False, True)
-FOR_ONE_AT_LEAST = (False, True, True, True)
-FOR_FIRST_ALONE = (False, False, True, False)
-FOR_JUST_ONE = (False, True, True, False)
-
 
 class Clue:
-    """The base of all clues. It keeps the least machine of the one that it is made with."""
+    """The base of all clues. It is made with its least machine, whose rows are tuples."""
 
     MOST = 64
 
     def __init__(self, alphabet, steps, told):
-        least_steps, least_told = least_machine(steps, told, Clue.MOST)
         self.alphabet = alphabet
-        self.steps = least_steps
-        self.told = least_told
+        self.steps = steps
+        self.told = told
 
     def __len__(self):
         return len(self.told)
@@ -44,19 +36,20 @@ class Clue:
                 and self.told == other.told)
 
     def __and__(self, other):
-        return joined_clue(self, other, FOR_BOTH)
+        return joined_clue(self, other, "&")
 
     def __or__(self, other):
-        return joined_clue(self, other, FOR_ONE_AT_LEAST)
+        return joined_clue(self, other, "|")
 
     def __sub__(self, other):
-        return joined_clue(self, other, FOR_FIRST_ALONE)
+        return joined_clue(self, other, "-")
 
     def __xor__(self, other):
-        return joined_clue(self, other, FOR_JUST_ONE)
+        return joined_clue(self, other, "^")
 
     def __invert__(self):
-        return Joined(self.alphabet, self.steps, [not is_told for is_told in self.told])
+        # With the other states told the same states are unlike.
+        return Joined(self.alphabet, self.steps, tuple([not is_told for is_told in self.told]))
 
     def __neg__(self):
         steps, told = mirrored_machine(self.steps, self.told, Clue.MOST)
@@ -73,8 +66,7 @@ class Clue:
     def within(self, other):
         """Whether each right word is right for the other clue."""
         same_values(self, other)
-        pairs, _ = paired_machine(self.steps, other.steps)
-        return not any([self.told[mine] and not other.told[their] for mine, their in pairs])
+        return leads_within((self.steps, self.told), (other.steps, other.told))
 
     def first(self):
         """The first right word, None if there is none."""
@@ -121,7 +113,8 @@ class Machine(Clue):
             raise BadMachine("steps")
         if not is_row(told, len(steps), len(steps)) or not all([isinstance(is_told, bool) for is_told in told]):
             raise BadMachine("told")
-        Clue.__init__(self, values, steps, told)
+        least_steps, least_told = least_machine(steps, told, Clue.MOST)
+        Clue.__init__(self, values, least_steps, least_told)
 
 
 class Marked:
@@ -157,9 +150,8 @@ def are_states(row, many):
     return all([is_from(state, 0, many - 1) for state in row])
 
 
-def joined_clue(one, other, truths):
-    """The clue of the words for which the truths hold."""
+def joined_clue(one, other, sign):
+    """The clue that a sign between two clues makes."""
     same_values(one, other)
-    pairs, steps = paired_machine(one.steps, other.steps)
-    told = [truths[2 * int(one.told[mine]) + int(other.told[their])] for mine, their in pairs]
+    steps, told = joined_machine((one.steps, one.told), (other.steps, other.told), sign, Clue.MOST)
     return Joined(one.alphabet, steps, told)

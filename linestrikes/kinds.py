@@ -2,7 +2,8 @@
 
 from linestrikes.checks import is_from, wrong_letter
 from linestrikes.clues import Clue, Marked
-from linestrikes.errors import BadClue, BadNumber, BadValues
+from linestrikes.errors import BadClue, BadNumber, BadValues, TooMany
+from linestrikes.machines import least_machine, numbered_machine
 from linestrikes.values import Values, cell_from
 
 MOST_RUNS = 8
@@ -38,9 +39,9 @@ class Few(Marked, Clue):
         if not is_from(most, 0, MOST_MARKS):
             raise BadNumber("most")
         self.most = most
-        # The state behind k marks is k, and most + 1 if there were more of them.
+        # The state behind k marks is k, and most + 1 if there were more of them. No two states let as many more marks.
         steps = [marked_row(values, mark, min(many + 1, most + 1), many) for many in range(most + 2)]
-        Clue.__init__(self, values, steps, [many <= most for many in range(most + 2)])
+        Clue.__init__(self, values, tuple(steps), (True,) * (most + 1) + (False,))
 
 
 class Modulo(Marked, Clue):
@@ -55,8 +56,10 @@ class Modulo(Marked, Clue):
             raise BadNumber("rest")
         self.modulus = modulus
         self.rest = rest
-        steps = [marked_row(values, mark, (many + 1) % modulus, many) for many in range(modulus)]
-        Clue.__init__(self, values, steps, [many == rest for many in range(modulus)])
+        # The state behind k marks is the rest of k. No two states lack as many marks.
+        steps = [marked_row(values, mark, many + 1, many) for many in range(modulus - 1)]
+        steps.append(marked_row(values, mark, 0, modulus - 1))
+        Clue.__init__(self, values, tuple(steps), tuple([many == rest for many in range(modulus)]))
 
 
 class Neighbours(Clue):
@@ -74,7 +77,8 @@ class Neighbours(Clue):
         for last in values.letters:
             steps.append([k + 1 if last + letter in pairs else wrong for k, letter in enumerate(values.letters)])
         steps.append([wrong] * len(values))
-        Clue.__init__(self, values, steps, [True] * wrong + [False])
+        least_steps, least_told = least_machine(steps, [True] * wrong + [False], Clue.MOST)
+        Clue.__init__(self, values, least_steps, least_told)
 
 
 class Ends(Clue):
@@ -93,7 +97,9 @@ class Ends(Clue):
         # State 0 is the start; 1 and 2 are behind a right first letter, 1 behind a right last one; 3 is the rest.
         behind = [1 if letter in last_cell else 2 for letter in values.letters]
         start = [state if letter in first_cell else 3 for state, letter in zip(behind, values.letters)]
-        Clue.__init__(self, values, [start, behind, behind, [3] * len(values)], [False, True, False, False])
+        steps = [start, behind, behind, [3] * len(values)]
+        least_steps, least_told = least_machine(steps, [False, True, False, False], Clue.MOST)
+        Clue.__init__(self, values, least_steps, least_told)
 
 
 class Listed(Clue):
@@ -116,7 +122,7 @@ class Every(Clue):
 
     def __init__(self, values):
         refuse_no_values(values)
-        Clue.__init__(self, values, [[0] * len(values)], [True])
+        Clue.__init__(self, values, ((0,) * len(values),), (True,))
 
 
 class Never(Clue):
@@ -124,7 +130,7 @@ class Never(Clue):
 
     def __init__(self, values):
         refuse_no_values(values)
-        Clue.__init__(self, values, [[0] * len(values)], [False])
+        Clue.__init__(self, values, ((0,) * len(values),), (False,))
 
 
 def refuse_no_values(values):
@@ -135,37 +141,48 @@ def refuse_no_values(values):
 
 def marked_row(values, mark, by_mark, by_other):
     """The next states: one by the mark, another one by all other values."""
-    return [by_mark if letter == mark else by_other for letter in values.letters]
+    at = values.letters.index(mark)
+    return (by_other,) * at + (by_mark,) + (by_other,) * (len(values.letters) - 1 - at)
 
 
 def runs_machine(values, mark, lengths):
-    """The steps and the told states of a machine for words with just these runs."""
-    wrong = sum(lengths) + len(lengths) + 1
+    """The steps and the told states of the least machine for words with just these runs.
+
+    No two of its states are alike, as the shortest words from them to the only told state are of unlike lengths.
+    """
+    wrong = max(1, sum(lengths) + len(lengths))
+    if wrong + 1 > Clue.MOST:
+        raise TooMany("states", Clue.MOST)
     steps = []
-    for length in lengths:
-        # Ahead of the run any other values may stand, but within it none.
-        ahead = len(steps)
-        steps.append(marked_row(values, mark, ahead + 1, ahead))
-        for many in range(1, length):
-            steps.append(marked_row(values, mark, ahead + many + 1, wrong))
-        steps.append(marked_row(values, mark, wrong, ahead + length + 1))
+    for at, length in enumerate(lengths):
+        # Ahead of the run any other values may stand, within it none, and behind it one at least if a run follows.
+        steps.append(marked_row(values, mark, len(steps) + 1, len(steps)))
+        for _ in range(length - 1):
+            steps.append(marked_row(values, mark, len(steps) + 1, wrong))
+        if at < len(lengths) - 1:
+            steps.append(marked_row(values, mark, wrong, len(steps) + 1))
     steps.append(marked_row(values, mark, wrong, wrong - 1))
     steps.append(marked_row(values, mark, wrong, wrong))
-    # Behind the last run the word may end at once; without runs there is no such state.
-    told = [state == wrong - 1 or (state == wrong - 2 and len(lengths) > 0) for state in range(wrong + 1)]
-    return steps, told
+    return numbered_machine(steps, [state == wrong - 1 for state in range(wrong + 1)], 0)
 
 
 def listed_machine(values, words):
-    """The steps and the told states of a machine with a state for each beginning of a word, and a last one."""
-    beginnings = [""]
-    numbers = {"": 0}
+    """The steps and the told states of the least machine for just these words.
+
+    Each state is told by its row, whether it is told and its next states, and the words are built from behind: so no
+    two states are alike. The state 0 is the one behind all wrong beginnings until all are numbered anew.
+    """
+    ends = {word: True for word in words}
+    beginnings = {"": True}
     for word in words:
         for many in range(1, len(word) + 1):
-            if word[:many] not in numbers:
-                numbers[word[:many]] = len(beginnings)
-                beginnings.append(word[:many])
-    wrong = len(beginnings)
-    steps = [[numbers.get(some + letter, wrong) for letter in values.letters] for some in beginnings]
-    steps.append([wrong] * len(values))
-    return steps, [some in words for some in beginnings] + [False]
+            beginnings[word[:many]] = True
+    rows = {(False, *[0] * len(values)): 0}
+    states = {}
+    for some in list(beginnings)[::-1]:
+        row = (some in ends, *[states.get(some + letter, 0) for letter in values.letters])
+        states[some] = rows.setdefault(row, len(rows))
+        if len(rows) > Clue.MOST:
+            raise TooMany("states", Clue.MOST)
+    steps = [row[1:] for row in rows]
+    return numbered_machine(steps, [row[0] for row in rows], states[""])

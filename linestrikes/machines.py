@@ -2,100 +2,174 @@
 
 from linestrikes.errors import TooMany
 
+# The words that states are first told apart by have up to 127 letters, so that those of a long circle come apart too.
+MOST_DOUBLINGS = 7
 
-def reached_states(steps):
-    """The states that words come to, in the order in which words first come to them."""
-    order = [0]
-    seen = {0: True}
+
+def numbered_machine(steps, told, start):
+    """The steps and the told states of the states that words come to, numbered as words first come to them."""
+    order = [start]
+    numbers = {start: 0}
     at = 0
     while at < len(order):
         row = steps[order[at]]
         for after in row:
-            if after not in seen:
-                seen[after] = True
+            if after not in numbers:
+                numbers[after] = len(order)
                 order.append(after)
         at += 1
-    return order
-
-
-def finer_classes(order, steps, classes):
-    """Numbers the states anew: alike are those of one class whose next states are of one class for each value."""
-    rows = {}
-    finer = {}
-    for state in order:
-        row = (classes[state], *[classes[after] for after in steps[state]])
-        finer[state] = rows.setdefault(row, len(rows))
-    return finer
+    rows = [tuple([numbers[after] for after in steps[state]]) for state in order]
+    return tuple(rows), tuple([told[state] for state in order])
 
 
 def least_machine(steps, told, most):
-    """The pair of the steps and the told states of the least machine."""
-    order = reached_states(steps)
-    classes = {state: int(told[state]) for state in order}
+    """The steps and the told states of the least machine."""
+    numbered_steps, numbered_told = numbered_machine(steps, told, 0)
+    return merged_machine(numbered_steps, numbered_told, class_numbers(numbered_told), most)
+
+
+def merged_machine(steps, told, classes, most):
+    """The least machine of one whose states are numbered as words first come to them.
+
+    States of unlike classes are not alike. Classes are numbered as they first come, so their numbers are in order too.
+    """
     many = 0
-    while len(set(list(classes.values()))) > many:
-        many = len(set(list(classes.values())))
+    while max(classes) + 1 > many:
+        many = max(classes) + 1
         # Classes are only ever parted, so the least machine has as many states at least.
         if many > most:
             raise TooMany("states", most)
-        classes = finer_classes(order, steps, classes)
-    firsts = {}
-    for state in order:
-        firsts.setdefault(classes[state], state)
-    states = [firsts[k] for k in range(many)]
-    least_steps = tuple([tuple([classes[after] for after in steps[state]]) for state in states])
-    return least_steps, tuple([told[state] for state in states])
+        if many < len(steps):
+            classes = class_numbers([(mine, *[classes[after] for after in row]) for mine, row in zip(classes, steps)])
+    firsts = [classes.index(k) for k in range(many)]
+    rows = [tuple([classes[after] for after in steps[state]]) for state in firsts]
+    return tuple(rows), tuple([told[state] for state in firsts])
 
 
-def paired_machine(one, other):
-    """The pairs of states of two machines that words come to, and the steps between their indexes."""
-    pairs = [(0, 0)]
-    numbers = {(0, 0): 0}
+def class_numbers(things):
+    """For each thing the number of its class: equal things are of one class, numbered as they first come."""
+    numbers = {}
+    classes = []
+    for thing in things:
+        if thing not in numbers:
+            numbers[thing] = len(numbers)
+        classes.append(numbers[thing])
+    return classes
+
+
+def joined_machine(one, other, sign, most):
+    """The least machine for what a sign between two clues tells, each of them a pair of steps and told states.
+
+    Its states are pairs of states. Before they are merged, each gets bits that tell whether some words lead from it to
+    a told state. Pairs with unlike bits are not alike: so most that is too large is refused with few pairs looked at.
+    """
+    many = len(other[1])
+    doublings = min(MOST_DOUBLINGS, (len(one[1]) * many).bit_length())
+    mine, their = power_bits(one[0], one[1], doublings), power_bits(other[0], other[1], doublings)
+    pairs = [0]
+    numbers = {0: 0}
+    bits = [joined_bits(sign, mine[0], their[0])]
+    unlike = {bits[0]: True}
     steps = []
-    at = 0
-    while at < len(pairs):
-        first, second = pairs[at]
+    while len(steps) < len(pairs):
+        first, second = divmod(pairs[len(steps)], many)
         row = []
-        for pair in zip(one[first], other[second]):
+        for after, other_after in zip(one[0][first], other[0][second]):
+            pair = after * many + other_after
             if pair not in numbers:
                 numbers[pair] = len(pairs)
                 pairs.append(pair)
+                bits.append(joined_bits(sign, mine[after], their[other_after]))
+                unlike[bits[-1]] = True
             row.append(numbers[pair])
+        if len(unlike) > most:
+            raise TooMany("states", most)
         steps.append(row)
+    return merged_machine(steps, [bool(some & 1) for some in bits], class_numbers(bits), most)
+
+
+def joined_bits(sign, mine, their):
+    """What a sign makes of the bits of two states."""
+    if sign == "&":
+        return mine & their
+    if sign == "|":
+        return mine | their
+    if sign == "-":
+        return mine & ~their
+    return mine ^ their
+
+
+def power_bits(steps, told, doublings):
+    """For each state bits that tell whether words of one letter alone lead from it to a told state.
+
+    For each letter these are the words of 0, 1, 2 letters and so on, as many as so many doublings of 1. So the lowest
+    bit tells whether the state itself is told.
+    """
+    by_column = {}
+    bits = [0] * len(steps)
+    for k in range(len(steps[0])):
+        column = tuple([row[k] for row in steps])
+        if column not in by_column:
+            by_column[column] = bits_of_column(column, told, doublings)
+        bits = [some | (more << (k << doublings)) for some, more in zip(bits, by_column[column])]
+    return bits
+
+
+def bits_of_column(column, told, doublings):
+    """As power_bits, for the letter that leads from each state to the one that the column has for it."""
+    bits = [int(is_told) for is_told in told]
+    jumps = column
+    for k in range(doublings):
+        bits = [some | (bits[after] << (1 << k)) for some, after in zip(bits, jumps)]
+        jumps = [jumps[after] for after in jumps]
+    return bits
+
+
+def leads_within(one, other):
+    """Whether each word that leads to a told state of one, a pair of steps and told states, leads to one of other."""
+    many = len(other[1])
+    if one[1][0] and not other[1][0]:
+        return False
+    pairs = [(0, 0)]
+    seen = [False] * (len(one[1]) * many)
+    seen[0] = True
+    at = 0
+    while at < len(pairs):
+        first, second = pairs[at]
+        for mine, their in zip(one[0][first], other[0][second]):
+            if not seen[mine * many + their]:
+                if one[1][mine] and not other[1][their]:
+                    return False
+                seen[mine * many + their] = True
+                pairs.append((mine, their))
         at += 1
-    return pairs, steps
+    return True
 
 
 def mirrored_machine(steps, told, most):
     """The steps and the told states of the machine that reads words from behind.
 
-    Its states are sets of states, as sums of 2 ** state: those from which the letters so far, read from the last one
-    to the first one, lead to a told state. As words come to each state, no two of these sets are alike: so there are
-    as many states in the least machine.
+    Its states tell for each state whether the letters so far, read from the last one to the first one, lead from it to
+    a told state. As words come to each state of a least machine, no two of them are alike. So they are those of the
+    least machine, and they come in its order.
     """
-    start = sum([1 << state for state, is_told in enumerate(told) if is_told])
-    sets = [start]
-    numbers = {start: 0}
+    columns = [[row[k] for row in steps] for k in range(len(steps[0]))]
+    sets = [told]
+    numbers = {told: 0}
     rows = []
-    at = 0
-    while at < len(sets):
+    while len(rows) < len(sets):
+        some = sets[len(rows)]
         row = []
-        for k in range(len(steps[0])):
-            before = states_ahead(steps, sets[at], k)
+        for column in columns:
+            before = tuple([some[after] for after in column])
             if before not in numbers:
                 numbers[before] = len(sets)
                 sets.append(before)
             row.append(numbers[before])
-        rows.append(row)
+        rows.append(tuple(row))
         if len(sets) > most:
             raise TooMany("states", most)
-        at += 1
-    return rows, [bool(some & 1) for some in sets]
-
-
-def states_ahead(steps, some, k):
-    """The set of the states from which the value with the index k leads to one of the set."""
-    return sum([1 << state for state, row in enumerate(steps) if (some >> row[k]) & 1])
+    return tuple(rows), tuple([some[0] for some in sets])
 
 
 def first_words(letters, steps):

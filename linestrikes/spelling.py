@@ -15,19 +15,47 @@ def each_word(letters, steps, told, numbers):
 
 def word_total(steps, told, numbers):
     """How many right words fit."""
+    known = {}
     ways = [int(is_told) for is_told in told]
     for number in numbers[::-1]:
-        ways = [sum([ways[after] for k, after in enumerate(row) if (number >> k) & 1]) for row in steps]
+        if number not in known:
+            known[number] = columns_of(steps, number)
+        total = [0] * len(ways)
+        for column, times in known[number]:
+            total = [so_far + times * ways[after] for so_far, after in zip(total, column)]
+        ways = total
     return ways[0]
 
 
 def living_states(steps, told, numbers):
     """For each place, and behind the last one: whether a told state is behind each state by the cells from there."""
-    rows = [list(told)]
+    known = {}
+    rows = [tuple(told)]
     for number in numbers[::-1]:
-        last = rows[-1]
-        rows.append([any([last[after] for k, after in enumerate(row) if (number >> k) & 1]) for row in steps])
+        # In long lines the same cell comes again and again ahead of the same living states.
+        key = (number, rows[-1])
+        if key not in known:
+            known[key] = living_ahead(columns_of(steps, number), rows[-1])
+        rows.append(known[key])
     return rows[::-1]
+
+
+def living_ahead(columns, last):
+    """For each state whether a column leads from it to a living one."""
+    living = [False] * len(last)
+    for column, _ in columns:
+        living = [is_living or last[after] for is_living, after in zip(living, column)]
+    return tuple(living)
+
+
+def columns_of(steps, number):
+    """The next states of all states for each value of a cell, and how many values have the same ones."""
+    columns = {}
+    for k in range(len(steps[0])):
+        if (number >> k) & 1:
+            column = tuple([row[k] for row in steps])
+            columns[column] = columns.get(column, 0) + 1
+    return list(columns.items())
 
 
 def complete_path(path, states, steps, alive, numbers):
