@@ -177,7 +177,7 @@ def listed_machine(values, words):
     for word in words:
         for many in range(1, len(word) + 1):
             beginnings[word[:many]] = True
-    rows = {(False, *[0] * len(values)): 0}
+    rows = {(False,) + (0,) * len(values): 0}
     states = {}
     for some in list(beginnings)[::-1]:
         row = (some in ends, *[states.get(some + letter, 0) for letter in values.letters])

@@ -4,6 +4,8 @@ from linestrikes.errors import TooMany
 
 # The words that states are first told apart by have up to 127 letters, so that those of a long circle come apart too.
 MOST_DOUBLINGS = 7
+# With fewer pairs of states it is sooner to tell them apart letter by letter alone.
+MANY_PAIRS = 32
 
 
 def numbered_machine(steps, told, start):
@@ -64,7 +66,8 @@ def joined_machine(one, other, sign, most):
     a told state. Pairs with unlike bits are not alike: so most that is too large is refused with few pairs looked at.
     """
     many = len(other[1])
-    doublings = min(MOST_DOUBLINGS, (len(one[1]) * many).bit_length())
+    most_pairs = len(one[1]) * many
+    doublings = 0 if most_pairs < MANY_PAIRS else min(MOST_DOUBLINGS, most_pairs.bit_length())
     mine, their = power_bits(one[0], one[1], doublings), power_bits(other[0], other[1], doublings)
     pairs = [0]
     numbers = {0: 0}
@@ -133,16 +136,17 @@ def leads_within(one, other):
     pairs = [(0, 0)]
     seen = [False] * (len(one[1]) * many)
     seen[0] = True
-    at = 0
-    while at < len(pairs):
-        first, second = pairs[at]
-        for mine, their in zip(one[0][first], other[0][second]):
-            if not seen[mine * many + their]:
+    while pairs:
+        first, second = pairs.pop()
+        for k in range(len(one[0][0])):
+            mine, their = one[0][first][k], other[0][second][k]
+            # A letter is gone on with at once, as a word that shows the contrary often has one letter again and again.
+            while not seen[mine * many + their]:
                 if one[1][mine] and not other[1][their]:
                     return False
                 seen[mine * many + their] = True
                 pairs.append((mine, their))
-        at += 1
+                mine, their = one[0][mine][k], other[0][their][k]
     return True
 
 

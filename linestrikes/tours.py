@@ -16,31 +16,31 @@ def tour(stands, most):
     fresh = [(0, stands.first_stand)]
     rounds_of_keys = []
     while fresh:
-        keys = least_keys(stands, fresh, seen)
-        lines = sorted(set(list(keys.values())))
+        least = least_keys(stands, fresh, seen)
+        lines = sorted(set(list(least.values())))
         rounds_of_keys.append(lines)
-        failing = [key for stand, key in keys.items() if stands.fails(stand)]
+        failing = [key for stand, key in least.items() if stands.fails(stand)]
         if failing:
             return [], line_behind(rounds_of_keys, min(failing))
-        for stand in keys:
+        for stand in least:
             seen[stand] = True
         if len(seen) > most:
             raise TooMany("stands", most)
         indexes = {key: at for at, key in enumerate(lines)}
-        fresh = [(indexes[key], stand) for stand, key in keys.items()]
+        fresh = [(indexes[key], stand) for stand, key in least.items()]
     return list(seen), None
 
 
 def least_keys(stands, fresh, seen):
     """A dict with the least key for each new stand that comes behind the fresh ones."""
-    keys = {}
+    least = {}
     for at, stand in fresh:
         for number, after in stands.onward(stand):
             if after not in seen:
                 key = KEY_STEP * at + number
-                if keys.get(after, key) >= key:
-                    keys[after] = key
-    return keys
+                if least.get(after, key) >= key:
+                    least[after] = key
+    return least
 
 
 def line_behind(rounds_of_keys, key):

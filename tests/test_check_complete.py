@@ -3,10 +3,14 @@ import unittest
 from linestrikes.books import Book
 from linestrikes.check_complete import shows_complete, shows_exact, shows_incomplete
 from linestrikes.complete import judge_complete, judge_exact
+from linestrikes.compare import alike, judge_stronger, parting
 from linestrikes.errors import Unlike
 from linestrikes.kinds import Every, Few, Neighbours, Never
+from linestrikes.lines import Line
 from linestrikes.rules import Rule
 from linestrikes.sound import judge_sound
+from linestrikes.stable import stable_lines
+from linestrikes.strikers import Striker
 from linestrikes.values import Values
 from tests.slow import complete_as_told, incomplete_as_told, sets_by_hand
 from tests.support import ABC, OX, XO, Checks, Dice, any_values, each_line, mutants
@@ -100,8 +104,10 @@ class ShowsComplete(Checks, unittest.TestCase):
         known = {(stand[0], stand[1]) for stand in TABLE}
         self.exactly(known, {(True, ()), (True, (1,)), (True, (2,)), (True, (3,)), (False, (1,)), (False, (2,)),
                              (False, (3,))})
-        for tail in ((0,), (4,), (1, 2), (True,), ("1",), (None,), ((1,),), [1], "1", 1, None, (-1,), ()):
-            self.exactly(shows_complete(PAIR, APART, TABLE + ((False, tail, False, (), False),)), False, tail)
+        # What comes behind a cell o is in the table, so only the tail can be wrong.
+        self.exactly(shows_complete(PAIR, APART, TABLE + ((False, (2,), False, (0,), False),)), True)
+        for tail in ((0,), (4,), (2, 2), (True,), ("2",), (None,), ((2,),), [2], "2", 2, None, (-2,), ()):
+            self.exactly(shows_complete(PAIR, APART, TABLE + ((False, tail, False, (0,), False),)), False, tail)
         self.exactly(shows_complete(PAIR, APART, TABLE + ((True, (1, 1), False, (2,), False),)), False)
         # What comes behind no states has none.
         more = tuple((start, tail, end, (), False) for start, tail, end, _, _ in
@@ -228,6 +234,46 @@ class ShowsExact(Checks, unittest.TestCase):
         for lost in ((), (2,)):
             for rows in mutants((((0, 1, 2), (1, 2)), ((0, 1, 2), (0, 2)))):
                 self.exactly(shows_exact(all_struck, APART, ((lost, rows), table)), False)
+
+
+class OtherStrikers(Checks, unittest.TestCase):
+    """A striker that is no book: nothing but its windows and its first strike is asked for."""
+
+    def test_no_judgement_of_soundness(self):
+        for book, kind in ((PAIR, "exact"), (HALF, "incomplete"), (PAIR + Rule(XO, ["o"], 0, "o"), "exact")):
+            other = Veiled(book)
+            judged = judge_exact(other, APART)
+            self.exactly(judged.kind, kind)
+            if kind == "exact":
+                self.exactly([judged.sound, judged.paper()], [None, ("exact", None, judge_complete(book, APART).paper())])
+                table = judged.complete.table
+                self.exactly(shows_exact(other, APART, (None, table)), True)
+                for sound in (((2,), ()), ((), ()), False, (), 0, ""):
+                    self.exactly(shows_exact(other, APART, (sound, table)), False)
+                self.exactly(shows_exact(other, APART, (None, table[1:])), False)
+                self.exactly([shows_complete(other, APART, table), shows_exact(book, APART, (None, table))], [True, False])
+            else:
+                self.exactly(shows_incomplete(other, APART, judged.paper()[1:]), True)
+
+    def test_comparisons(self):
+        self.exactly([alike(PAIR, Veiled(PAIR)), judge_stronger(Veiled(PAIR), HALF).kind,
+                      str(parting(Veiled(HALF), PAIR))], [True, "stronger", "xo x"])
+        self.exactly([str(line) for line in stable_lines(Veiled(PAIR), Line.free(XO, 2))],
+                     [str(line) for line in stable_lines(PAIR, Line.free(XO, 2))])
+
+
+class Veiled(Striker):
+    """Strikes as a book does."""
+
+    def __init__(self, book):
+        Striker.__init__(self, book.alphabet, book.width)
+        self.book = book
+
+    def first_strike(self, numbers, start):
+        return self.book.first_strike(numbers, start)
+
+    def struck_behind(self, numbers, is_start, is_end):
+        return self.book.struck_behind(numbers, is_start, is_end)
 
 
 if __name__ == "__main__":

@@ -75,6 +75,9 @@ class ShowsBarred(Checks, unittest.TestCase):
         flat = ((0,),) * 5
         self.exactly([shows_barred(never, LINE, flat, 1, "o"), shows_barred(never, LINE, flat, 0, "o"),
                       shows_barred(never, LINE, flat), shows_barred(never, LINE, flat, 1, "x")], [False, True, True, True])
+        # Sets that show that no right word fits, but just one of place and value.
+        self.exactly([shows_barred(never, LINE, flat, None, "x"), shows_barred(never, LINE, flat, 0, None),
+                      shows_barred(never, LINE, flat, value="o"), shows_barred(never, LINE, flat, place=0)], [False] * 4)
 
     def test_unlike_values_are_ahead(self):
         for line in (Line.free(OX, 4), Line.free(ABC, 4), Line.free(Values("xoa"), 1)):

@@ -133,6 +133,8 @@ class Kinds(Checks, unittest.TestCase):
     def test_bounds_of_listed(self):
         # So many states as the word has beginnings, and one more.
         self.exactly(len(Listed(XO, "x" * 30, "o" * 30)), 60 + 1)
+        self.exactly(len(Listed(XO, "x" * 30, "o" * 30, "xoxoxo")), 64)
+        self.raises(TooMany("states", 64), Listed, XO, "x" * 30, "o" * 30, "xoxoxox")
         self.exactly([len(Listed(XO)), len(Listed(XO, "")), len(Listed(XO, "", ""))], [1, 2, 2])
         self.exactly(Listed(XO, "x", "o", "xx").steps, ((1, 2), (2, 3), (3, 3), (3, 3)))
 
