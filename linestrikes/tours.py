@@ -47,7 +47,8 @@ def line_behind(rounds_of_keys, key):
     """The numbers of the cells of the line with a key of the last round."""
     numbers = []
     last = key
-    for lines in [[0], *rounds_of_keys[:-1]][::-1]:
+    ahead = [[0], *rounds_of_keys[:-1]]
+    for lines in ahead[::-1]:
         numbers.append(last & (KEY_STEP - 1))
         last = lines[last // KEY_STEP]
     return numbers[::-1]
