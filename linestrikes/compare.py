@@ -26,7 +26,7 @@ class Parted(Shown):
     """The least line that is stable for one striker and not for the other one."""
 
     def __init__(self, line):
-        Judgement.__init__(self, "parted", (tuple(numbers_of(line)),))
+        Shown.__init__(self, "parted", (tuple(numbers_of(line)),))
         self.line = line
 
 

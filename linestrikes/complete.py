@@ -23,7 +23,7 @@ class Incomplete(Shown):
 
     def __init__(self, line, place, value, sets):
         numbers = tuple([cell.number for cell in line])
-        Judgement.__init__(self, "incomplete", (numbers, place, value, sets))
+        Shown.__init__(self, "incomplete", (numbers, place, value, sets))
         self.line = line
         self.place = place
         self.value = value

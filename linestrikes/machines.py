@@ -163,14 +163,14 @@ def mirrored_machine(steps, told, most):
     rows = []
     while len(rows) < len(sets):
         some = sets[len(rows)]
-        row = []
+        turned = []
         for column in columns:
             before = tuple([some[after] for after in column])
             if before not in numbers:
                 numbers[before] = len(sets)
                 sets.append(before)
-            row.append(numbers[before])
-        rows.append(tuple(row))
+            turned.append(numbers[before])
+        rows.append(tuple(turned))
         if len(sets) > most:
             raise TooMany("states", most)
     return tuple(rows), tuple([some[0] for some in sets])

@@ -42,7 +42,7 @@ class Unsound(Shown):
     """The least right word on whose sure line a rule strikes, and where this is."""
 
     def __init__(self, spoiled, place, number):
-        Judgement.__init__(self, "unsound", (spoiled, place, number))
+        Shown.__init__(self, "unsound", (spoiled, place, number))
         self.spoiled = spoiled
         self.place = place
         self.number = number
