@@ -5,6 +5,7 @@ from linestrikes.errors import BadBook, NoRule, Struck
 from linestrikes.rules import Rule
 from linestrikes.strikers import Striker
 from linestrikes.values import Values
+from linestrikes.windows import BookWindows
 
 
 class Book(Striker):
@@ -99,14 +100,6 @@ class Book(Striker):
         place, number = strike
         return Struck(place, number)
 
-    def struck_behind(self, numbers, is_start, is_end):
-        """The sum of 2 ** number over the rules that strike in a window that ends with these cells.
-
-        These are with is_end the rules of the right end, otherwise all others.
-        """
-        found = 0
-        for number, rule in enumerate(self.kept):
-            if rule.right == is_end and (is_start or not rule.left):
-                if rule.hits_at(numbers, len(numbers) - len(rule.wanted)):
-                    found += 1 << number
-        return found
+    def walked(self):
+        """The windows of lines that are walked through cell by cell: rules are told by their numbers."""
+        return BookWindows(self.kept, self.alphabet.full.number)

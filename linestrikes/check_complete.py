@@ -27,10 +27,8 @@ def is_table(stands, thing):
         told[stand] = True
     if stands.first_stand not in told:
         return False
-    for stand in told:
-        if any([after not in told for _, after in stands.onward(stand)]):
-            return False
-    return True
+    cores = {stands.core_of(stand): True for stand in told}
+    return all([after in told for core in cores for _, after in stands.onward(core)])
 
 
 def shows_incomplete(striker, clue, thing):

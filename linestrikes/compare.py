@@ -7,7 +7,6 @@ from linestrikes.sound import Judgement, Shown
 from linestrikes.stands import DoubleStands, reach_of
 from linestrikes.tours import tour
 from linestrikes.values import numbers_of
-from linestrikes.windows import Windows
 
 # The parts of a striker of which all may strike.
 ALL_PARTS = -1
@@ -32,23 +31,20 @@ class Parted(Shown):
 
 def judge_stronger(one, other, *, most=4000):
     """A Stronger if one is stronger than the other one, otherwise a Parted."""
-    same_values(one, other)
-    refuse_wrong_most(most)
-    reach = reach_of(max(one.width, other.width))
-    found, numbers = tour(DoubleStands(Windows(one), ALL_PARTS, Windows(other), ALL_PARTS, reach), most)
+    stands = double_stands(one, other, most)
+    found, numbers = tour(stands, most)
     if numbers is not None:
         return Parted(line_of(one.alphabet, numbers))
-    return Stronger(tuple(sorted(found)))
+    return Stronger(stands.told_stands(found))
 
 
 def parting(one, other, *, most=4000):
     """The least line that is stable for just one of both, None if there is none."""
-    forth = judge_stronger(one, other, most=most)
-    back = judge_stronger(other, one, most=most)
-    lines = [judged.line for judged in (forth, back) if not judged]
-    if not lines:
-        return None
-    return min(lines, key=numbers_by_length)
+    stands = double_stands(one, other, most)
+    _, forth = tour(stands, most)
+    _, back = tour(stands.turned(), most)
+    rows = [(len(numbers), numbers) for numbers in (forth, back) if numbers is not None]
+    return line_of(one.alphabet, min(rows)[1]) if rows else None
 
 
 def alike(one, other, *, most=4000):
@@ -79,12 +75,21 @@ def keepers(book):
     return tuple([parts.parting_line(parts.without(number), parts.every) for number in range(len(book))])
 
 
+def double_stands(one, other, most):
+    """The double stands of two strikers, all of which strike, behind a look at what was passed."""
+    same_values(one, other)
+    refuse_wrong_most(most)
+    reach = reach_of(max(one.width, other.width))
+    return DoubleStands(one.walked(), ALL_PARTS, other.walked(), ALL_PARTS, reach, one.alphabet.full.number)
+
+
 class BookParts:
     """The books with some of the rules of a book: a part is told by the sum of 2 ** number over its rules."""
 
     def __init__(self, book):
         self.book = book
-        self.windows = Windows(book)
+        self.windows = book.walked()
+        self.full_number = book.alphabet.full.number
         self.every = (1 << len(book)) - 1
 
     def without(self, number):
@@ -95,19 +100,32 @@ class BookParts:
         """The list of the rules of a part."""
         return [rule for number, rule in enumerate(self.book.rules) if (part >> number) & 1]
 
-    def parting_line(self, one, other):
-        """The least line that is stable for one part and not for another one, None if there is none."""
-        reach = reach_of(max([len(rule) for rule in self.rules_of(one | other)], default=0))
-        _, numbers = tour(DoubleStands(self.windows, one, self.windows, other, reach), MOST_OF_BOOKS)
+    def reach_of_part(self, part):
+        """The reach of the book with the rules of a part."""
+        return reach_of(max([len(rule) for rule in self.rules_of(part)], default=0))
+
+    def parting_line(self, fewer, more):
+        """The least line that is stable for a part and not for one with more rules, None if there is none."""
+        stands = DoubleStands(self.windows, fewer, self.windows, more, self.reach_of_part(more), self.full_number)
+        _, numbers = tour(stands, MOST_OF_BOOKS)
         return None if numbers is None else line_of(self.book.alphabet, numbers)
 
-    def are_alike(self, one, other):
-        """Whether two parts are stable for the same lines."""
-        forth = self.parting_line(one, other)
-        back = self.parting_line(other, one)
-        return forth is None and back is None
+    def are_alike(self, more, fewer):
+        """Whether a part is stable for the same lines as one with fewer rules."""
+        reach = self.reach_of_part(more)
+        if most_stands(self.full_number, reach) > MOST_OF_BOOKS:
+            # More rules are surely stronger, so that this way tells nothing but that there are too many stands.
+            tour(DoubleStands(self.windows, more, self.windows, fewer, reach, self.full_number), MOST_OF_BOOKS)
+        return self.parting_line(fewer, more) is None
 
 
-def numbers_by_length(line):
-    """What orders lines: their lengths, then the numbers of their cells."""
-    return len(line), numbers_of(line)
+def most_stands(full_number, reach):
+    """How many double stands of a striker and of a weaker one there may be at most.
+
+    Each row of at most as many cells as the reach is that of one stand. Behind a line with more cells come at most
+    three for each tail, as none is struck and the line may end for the weaker one wherever it may for the other one.
+    """
+    rows = [1]
+    for _ in range(reach):
+        rows.append(rows[-1] * full_number)
+    return sum(rows) + 3 * rows[-1]

@@ -4,8 +4,9 @@ from linestrikes.checks import refuse_wrong_most, same_values
 from linestrikes.errors import NothingTold, TooMany, Unlike
 from linestrikes.lines import line_of
 from linestrikes.marks import cells_within
+from linestrikes.stands import reach_of
+from linestrikes.tails import NO_CELLS, Tails
 from linestrikes.values import numbers_of
-from linestrikes.windows import Windows
 
 
 def stable_lines(striker, line, *, most=4000):
@@ -45,13 +46,16 @@ def refuse_many_lines(numbers, most):
 
 def stable_rows(striker, numbers):
     """The rows of numbers of the stable lines, in order."""
-    windows = Windows(striker)
-    width = max(1, striker.width)
-    rows = [()]
-    for at, number in enumerate(numbers):
-        start = max(0, at + 1 - width)
+    windows = striker.walked()
+    tails = Tails(reach_of(striker.width))
+    rows = [((), NO_CELLS, True)]
+    for number in numbers:
         parts = cells_within(number)
-        longer = [(*row, part) for row in rows for part in parts]
-        rows = [row for row in longer if not windows.look(row[start:], start == 0)[0]]
-    start = max(0, len(numbers) - width)
-    return [row for row in rows if not windows.look(row[start:], start == 0)[1]]
+        longer = []
+        for row, tail, _ in rows:
+            struck, struck_at_end = windows.behind(tail)
+            room = tails.room_behind(tail)
+            longer.extend([((*row, part), room + tails.digit_of(part), not struck_at_end[part])
+                           for part in parts if not struck[part]])
+        rows = longer
+    return [row for row, _, may_end in rows if may_end]

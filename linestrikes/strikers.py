@@ -32,13 +32,8 @@ class Striker(Narrower):
         """The error that tells of a strike that would leave an empty cell."""
         raise NotImplementedError("each kind of striker has its own causes")
 
-    def struck_behind(self, numbers, is_start, is_end):
-        """What strikes in the windows that end with the last cells of a line so far; 0 if nothing does.
-
-        The cells are all cells of the line so far if is_start is True, otherwise as many as the width, or more. What
-        looks at more cells is not told. With is_end that is told which strikes only if the line ends with these cells,
-        otherwise what strikes in any case.
-        """
+    def walked(self):
+        """The windows of lines that are walked through cell by cell, new ones."""
         raise NotImplementedError("each kind of striker has its own windows")
 
     def is_stable(self, line):

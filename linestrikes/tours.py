@@ -9,38 +9,46 @@ KEY_STEP = 16
 def tour(stands, most):
     """The list of all stands, and the numbers of the least line with a stand that fails, None if none fails.
 
-    All stands that come in a round come of those that are new in the round before. As of each of these the least line
-    is known, and keys are in the order of the lines, the least key of a stand tells the least line that comes to it.
+    What comes behind a stand is told by its core, so that it is gone on with for the first stand with this core alone.
+    Lines are gone through in order: so the first one that comes to a stand is the least one.
     """
     seen = {stands.first_stand: True}
+    cores = {}
     fresh = [(0, stands.first_stand)]
     rounds_of_keys = []
     while fresh:
-        least = least_keys(stands, fresh, seen)
-        lines = sorted(set(list(least.values())))
-        rounds_of_keys.append(lines)
-        failing = [key for stand, key in least.items() if stands.fails(stand)]
+        keys, fresh = next_round(stands, fresh, seen, cores)
+        rounds_of_keys.append(keys)
+        failing = [at for at, stand in fresh if stands.fails(stand)]
         if failing:
-            return [], line_behind(rounds_of_keys, min(failing))
-        for stand in least:
-            seen[stand] = True
+            return [], line_behind(rounds_of_keys, keys[failing[0]])
         if len(seen) > most:
             raise TooMany("stands", most)
-        indexes = {key: at for at, key in enumerate(lines)}
-        fresh = [(indexes[key], stand) for stand, key in least.items()]
     return list(seen), None
 
 
-def least_keys(stands, fresh, seen):
-    """A dict with the least key for each new stand that comes behind the fresh ones."""
-    least = {}
+def next_round(stands, fresh, seen, cores):
+    """The ascending keys of the lines that are the first ones to come to new stands, and these stands.
+
+    Each stand stands in a pair behind the index of the key of its line. They are put to those that were seen, and the
+    cores that are gone on with to the cores.
+    """
+    keys = []
+    coming = []
+    last = None
     for at, stand in fresh:
-        for number, after in stands.onward(stand):
-            if after not in seen:
-                key = KEY_STEP * at + number
-                if least.get(after, key) >= key:
-                    least[after] = key
-    return least
+        core = stands.core_of(stand)
+        if core not in cores:
+            cores[core] = True
+            for number, after in stands.onward(core):
+                if after not in seen:
+                    seen[after] = True
+                    key = KEY_STEP * at + number
+                    if key != last:
+                        keys.append(key)
+                        last = key
+                    coming.append((len(keys) - 1, after))
+    return keys, coming
 
 
 def line_behind(rounds_of_keys, key):

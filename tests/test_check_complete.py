@@ -272,8 +272,8 @@ class Veiled(Striker):
     def first_strike(self, numbers, start):
         return self.book.first_strike(numbers, start)
 
-    def struck_behind(self, numbers, is_start, is_end):
-        return self.book.struck_behind(numbers, is_start, is_end)
+    def walked(self):
+        return self.book.walked()
 
 
 if __name__ == "__main__":
