@@ -2,11 +2,11 @@
 
 from linestrikes.books import Book
 from linestrikes.check_sound import shows_sound
-from linestrikes.checks import is_from, is_row, same_values
+from linestrikes.checks import is_from, is_index_row, is_row, same_values
 from linestrikes.lines import Line, line_of
 from linestrikes.marks import marked_numbers
 from linestrikes.stands import Stands
-from linestrikes.states import StateSets, is_state_row
+from linestrikes.states import StateSets
 
 
 def shows_complete(striker, clue, thing):
@@ -69,6 +69,6 @@ def are_exactly(sets, numbers, thing):
     """Whether any value is the tuple of the sets along the cells with these numbers, and no last state is told."""
     if not isinstance(thing, tuple) or len(thing) != len(numbers) + 1:
         return False
-    if not all([is_state_row(row, len(sets.steps)) for row in thing]):
+    if not all([is_index_row(row, len(sets.steps)) for row in thing]):
         return False
     return thing == sets.sets_told(numbers) and sets.along(numbers)[-1] & sets.told_ones == 0

@@ -1,8 +1,8 @@
 """Looks at what is said to show that a book is sound, or that it is not."""
 
-from linestrikes.checks import is_from, is_integer, same_values
+from linestrikes.checks import is_from, is_index_row, is_integer, same_values
 from linestrikes.lines import Line
-from linestrikes.states import StateSets, is_state_row, set_of
+from linestrikes.states import StateSets, set_of
 
 
 def shows_sound(book, clue, thing):
@@ -12,7 +12,7 @@ def shows_sound(book, clue, thing):
         return False
     lost, rows = thing
     sets = StateSets(clue)
-    if not is_state_row(lost, len(clue)) or not isinstance(rows, tuple) or len(rows) != len(book):
+    if not is_index_row(lost, len(clue)) or not isinstance(rows, tuple) or len(rows) != len(book):
         return False
     lost_set = set_of(lost)
     if lost_set & sets.told_ones or sets.behind(lost_set, clue.alphabet.full.number) & ~lost_set:
@@ -24,7 +24,7 @@ def shows_rows(sets, lost_set, rule, rows):
     """Whether any value is a tuple of rows that show that a rule is sound."""
     if not isinstance(rows, tuple) or len(rows) != len(rule) + 1:
         return False
-    if not all([is_state_row(row, len(sets.steps)) for row in rows]):
+    if not all([is_index_row(row, len(sets.steps)) for row in rows]):
         return False
     told = [set_of(row) for row in rows]
     if (1 if rule.left else sets.every) & ~told[0]:

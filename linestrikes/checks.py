@@ -20,6 +20,13 @@ def is_row(value, fewest, most):
     return isinstance(value, (list, tuple)) and fewest <= len(value) <= most
 
 
+def is_index_row(value, many):
+    """Whether any value is an ascending tuple of indexes of so many things."""
+    if not isinstance(value, tuple) or not all([is_from(index, 0, many - 1) for index in value]):
+        return False
+    return all([one < other for one, other in zip(value, value[1:])])
+
+
 def is_letter_of(letters, value):
     """Whether any value is one of the letters of a string."""
     return isinstance(value, str) and len(value) == 1 and value in letters

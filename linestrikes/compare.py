@@ -31,7 +31,9 @@ class Parted(Shown):
 
 def judge_stronger(one, other, *, most=4000):
     """A Stronger if one is stronger than the other one, otherwise a Parted."""
-    stands = double_stands(one, other, most)
+    same_values(one, other)
+    refuse_wrong_most(most)
+    stands = all_double_stands(one, other)
     found, numbers = tour(stands, most)
     if numbers is not None:
         return Parted(line_of(one.alphabet, numbers))
@@ -40,7 +42,9 @@ def judge_stronger(one, other, *, most=4000):
 
 def parting(one, other, *, most=4000):
     """The least line that is stable for just one of both, None if there is none."""
-    stands = double_stands(one, other, most)
+    same_values(one, other)
+    refuse_wrong_most(most)
+    stands = all_double_stands(one, other)
     _, forth = tour(stands, most)
     _, back = tour(stands.turned(), most)
     rows = [(len(numbers), numbers) for numbers in (forth, back) if numbers is not None]
@@ -75,10 +79,8 @@ def keepers(book):
     return tuple([parts.parting_line(parts.without(number), parts.every) for number in range(len(book))])
 
 
-def double_stands(one, other, most):
-    """The double stands of two strikers, all of which strike, behind a look at what was passed."""
-    same_values(one, other)
-    refuse_wrong_most(most)
+def all_double_stands(one, other):
+    """The double stands of two strikers, all parts of which strike."""
     reach = reach_of(max(one.width, other.width))
     return DoubleStands(one.walked(), ALL_PARTS, other.walked(), ALL_PARTS, reach, one.alphabet.full.number)
 

@@ -52,26 +52,18 @@ def judge_sound(book, clue):
     """A Sound or an Unsound."""
     same_values(book, clue)
     sets = StateSets(clue)
-    lost = lost_states(clue)
     rows = [rule_rows(sets, rule) for rule in book.rules]
-    wrong = [rule for rule, row in zip(book.rules, rows) if not is_last_row(sets, lost, rule, row[-1])]
+    wrong = [rule for rule, row in zip(book.rules, rows) if not is_last_row(sets, rule, row[-1])]
     if wrong:
         return unsound(book, clue, spoiled_word(clue, wrong))
-    return Sound(lost, tuple([tuple([states_of(some) for some in row]) for row in rows]))
+    return Sound(states_of(sets.lost_ones), tuple([tuple([states_of(some) for some in row]) for row in rows]))
 
 
 def is_sound_rule(rule, clue):
     """Whether the rule alone is sound."""
     same_values(rule, clue)
     sets = StateSets(clue)
-    return is_last_row(sets, lost_states(clue), rule, rule_rows(sets, rule)[-1])
-
-
-def lost_states(clue):
-    """The ascending tuple of the states from which no told state is reached."""
-    # All of them are alike, so that the least machine has one at most, and it leads to itself alone.
-    return tuple([state for state, row in enumerate(clue.steps)
-                  if not clue.told[state] and all([after == state for after in row])])
+    return is_last_row(sets, rule, rule_rows(sets, rule)[-1])
 
 
 def rule_rows(sets, rule):
@@ -82,11 +74,9 @@ def rule_rows(sets, rule):
     return rows
 
 
-def is_last_row(sets, lost, rule, some):
+def is_last_row(sets, rule, some):
     """Whether a set may be the last one of the rows of a sound rule."""
-    if rule.right:
-        return some & sets.told_ones == 0
-    return all([state in lost for state in states_of(some)])
+    return some & (sets.told_ones if rule.right else ~sets.lost_ones) == 0
 
 
 def unsound(book, clue, word):

@@ -1,8 +1,8 @@
 """Stands: what is kept of a line that is walked through cell by cell. Here tails and sets of states are numbers."""
 
-from linestrikes.checks import is_from
+from linestrikes.checks import is_from, is_index_row
 from linestrikes.marks import bits_of
-from linestrikes.states import StateSets, is_state_row, set_of, states_of
+from linestrikes.states import StateSets, set_of, states_of
 from linestrikes.tails import NO_CELLS, Tails, has_all_cells, numbers_of_tail, tail_of
 
 # The truths of a double stand, which is told by the number of its tail times TRUTHS, and the sum of those that hold.
@@ -64,7 +64,7 @@ class Stands:
         if not isinstance(thing, tuple) or len(thing) != 5:
             return None
         is_start, cells, may_end, states, is_marked = thing
-        if not are_bools([is_start, may_end, is_marked]) or not is_state_row(states, len(self.sets.steps)):
+        if not are_bools([is_start, may_end, is_marked]) or not is_index_row(states, len(self.sets.steps)):
             return None
         if not are_cells_kept(is_start, cells, self.reach, self.full_number):
             return None

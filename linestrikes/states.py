@@ -1,6 +1,6 @@
 """Sets of states of a clue, each told by the sum of 2 ** state over its states."""
 
-from linestrikes.checks import is_from
+from linestrikes.checks import is_index_row
 from linestrikes.marks import bits_of
 
 
@@ -11,6 +11,9 @@ class StateSets:
         self.steps = clue.steps
         self.every = (1 << len(clue.told)) - 1
         self.told_ones = set_of([state for state, is_told in enumerate(clue.told) if is_told])
+        # Lost states are all alike, so that a least machine has one at most, and it leads to itself alone.
+        self.lost_ones = set_of([state for state, row in enumerate(clue.steps)
+                                 if not clue.told[state] and all([after == state for after in row])])
         self.by_cell = {}
         self.stepped = {}
 
@@ -45,13 +48,23 @@ class StateSets:
 
     def left_numbers(self, numbers):
         """The numbers of the cells with just the values that right words have there; 0 if there are none."""
-        living = [self.told_ones]
+        return self.left_between(1, numbers, self.told_ones)
+
+    def factor_numbers(self, numbers, is_start, is_end):
+        """The same of factors: these are the first cells, the last cells, or not."""
+        start = 1 if is_start else self.every
+        return self.left_between(start, numbers, self.told_ones if is_end else self.every & ~self.lost_ones)
+
+    def left_between(self, start, numbers, end):
+        """The same of words that are read from a state of one set to a state of another one."""
+        living = [end]
         for number in numbers[::-1]:
             living.append(self.ahead(living[-1], number))
-        living = living[::-1]
+        some = start
         left = []
-        for at, some in enumerate(self.along(numbers)[:-1]):
-            left.append(sum([bit for bit in bits_of(numbers[at]) if self.behind(some, bit) & living[at + 1]]))
+        for number, after in zip(numbers, living[-2::-1]):
+            left.append(sum([bit for bit in bits_of(number) if self.behind(some, bit) & after]))
+            some = self.behind(some, number)
         return left
 
     def sets_told(self, numbers):
@@ -62,7 +75,7 @@ class StateSets:
         """Whether any value is a tuple of such tuples, perhaps with more states, and without a told one at the end."""
         if not isinstance(sets, tuple) or len(sets) != len(numbers) + 1:
             return False
-        if not all([is_state_row(row, len(self.steps)) for row in sets]):
+        if not all([is_index_row(row, len(self.steps)) for row in sets]):
             return False
         some = set_of(sets[0])
         if not some & 1:
@@ -79,17 +92,10 @@ def set_of(states):
     """The set with these states."""
     found = 0
     for state in states:
-        found |= 1 << state
+        found = found | (1 << state)
     return found
 
 
 def states_of(some):
     """The ascending tuple of the states of a set."""
     return tuple([state for state in range(some.bit_length()) if (some >> state) & 1])
-
-
-def is_state_row(row, many):
-    """Whether any value is an ascending tuple of states of a machine with so many."""
-    if not isinstance(row, tuple) or not all([is_from(state, 0, many - 1) for state in row]):
-        return False
-    return all([one < other for one, other in zip(row, row[1:])])

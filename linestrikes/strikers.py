@@ -58,6 +58,11 @@ class Striker(Narrower):
 
     def strikes(self, line):
         """The strikes that lead from the line to what is left."""
+        for strike in self.each_strike(line):
+            yield strike
+
+    def each_strike(self, line):
+        """The same for strikes, which each class below may tell anew."""
         same_values(self, line)
         done, _, clash = self.followed(numbers_of(line))
         carried_out = done if clash is None else done[:-1]

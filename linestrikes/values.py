@@ -12,7 +12,7 @@ class Values:
     MOST = 4
 
     def __init__(self, letters):
-        if not isinstance(letters, str) or not 2 <= len(letters) <= Values.MOST or not are_unlike_letters(letters):
+        if not are_values_letters(letters):
             raise BadValues(letters)
         self.letters = letters
         self.by_number = tuple([Cell(self, number) for number in range(1 << len(letters))])
@@ -115,6 +115,11 @@ class Cell:
         """Whether the other cell has each letter of this one."""
         same_values(self, other)
         return (self.number & ~other.number) == 0
+
+
+def are_values_letters(letters):
+    """Whether any value is a string of the letters of some values."""
+    return isinstance(letters, str) and 2 <= len(letters) <= Values.MOST and are_unlike_letters(letters)
 
 
 def are_unlike_letters(letters):

@@ -1,6 +1,7 @@
 """What strikes in the windows of a line that is walked through cell by cell."""
 
-from linestrikes.tails import BITS_OF_DIGIT, DIGIT, has_all_cells, length_of
+from linestrikes.marks import bits_of
+from linestrikes.tails import BITS_OF_DIGIT, DIGIT, has_all_cells, length_of, numbers_of_tail
 
 
 class Windows:
@@ -56,6 +57,45 @@ class BookWindows(Windows):
         if not self.at_end:
             return struck, self.nothing
         return [found & self.anywhere for found in struck], [found & self.at_end for found in struck]
+
+
+class FactorWindows(Windows):
+    """The windows of a best striker, told by the sets of states of its clue. What strikes is told by 1."""
+
+    def __init__(self, sets, width, full_number):
+        Windows.__init__(self)
+        self.sets = sets
+        self.width = width
+        self.bits = [bits_of(number) for number in range(full_number + 1)]
+        self.nothing = [0] * (full_number + 1)
+
+    def struck_behind(self, tail):
+        """What is told of a tail that is looked at for the first time."""
+        many = length_of(tail) + 1
+        is_start = has_all_cells(tail) and many <= self.width
+        cells = numbers_of_tail(tail)[max(0, many - self.width):]
+        some, marked = self.sets_behind(1 if is_start else self.sets.every, cells)
+        ends = [self.ends_with(some, marked, number) for number in range(len(self.bits))]
+        told = self.sets.told_ones
+        struck_at_end = [int(any([end & told == 0 for end in row])) for row in ends]
+        if many < self.width:
+            return self.nothing, struck_at_end
+        return [int(any([end & ~self.sets.lost_ones == 0 for end in row])) for row in ends], struck_at_end
+
+    def sets_behind(self, start, numbers):
+        """The set behind the first cells of a window, and the list of those with each mark there."""
+        some = start
+        marked = {}
+        for number in numbers:
+            longer = [self.sets.behind(other, number) for other in marked]
+            marked = {other: True for other in [*longer, *[self.sets.behind(some, bit) for bit in self.bits[number]]]}
+            some = self.sets.behind(some, number)
+        return some, list(marked)
+
+    def ends_with(self, some, marked, number):
+        """The sets behind a window with this last cell, with each mark."""
+        ends = [self.sets.behind(other, number) for other in marked]
+        return [*ends, *[self.sets.behind(some, bit) for bit in self.bits[number]]]
 
 
 def sum_of_rules(truths):

@@ -130,12 +130,29 @@ def module_faults(node, tree):
             is_docstring = isinstance(part, ast.Expr) and isinstance(part.value, ast.Constant)
             if not is_docstring and not isinstance(part, (ast.ImportFrom, ast.FunctionDef, ast.ClassDef, ast.Assign)):
                 yield "L3: not let at module level"
-            if isinstance(part, ast.Assign) and any(isinstance(one, (ast.Call, ast.Name)) and not isinstance(
-                    getattr(one, "ctx", None), ast.Store) for one in ast.walk(part)):
+            if isinstance(part, ast.Assign) and not is_plain(part.value, functions_above(node, part)):
                 yield "L3: no plain value at module level"
         names = [name for part in tree.body for name in bound_names(part)]
         if len(names) != len(set(names)):
             yield "L15: a name is bound twice at module level"
+
+
+def functions_above(tree, part):
+    return [one.name for one in tree.body if isinstance(one, ast.FunctionDef) and one.lineno < part.lineno]
+
+
+def is_plain(value, functions):
+    """Whether this is a constant, or a list, tuple or dict of such and of these functions."""
+    if isinstance(value, ast.Constant):
+        return True
+    if isinstance(value, ast.UnaryOp):
+        return isinstance(value.operand, ast.Constant)
+    parts = getattr(value, "elts", None)
+    if isinstance(value, ast.Dict):
+        parts = [*value.keys, *value.values]
+    if parts is None:
+        return False
+    return all(isinstance(one, ast.Name) and one.id in functions or is_plain(one, functions) for one in parts)
 
 
 def value_faults(node, parents):
