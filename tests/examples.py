@@ -207,4 +207,75 @@ COMPARE = """
 [(2,), True, ['x xo', 'xo x']]
 """
 
-SECTIONS = [VALUES, LINES, KINDS, RULES, BOOKS, TRAILS, STABLE, SUPPORTS, SOUND, COMPLETE, COMPARE]
+BEST = """
+>>> from linestrikes.best import Best, factors
+>>> [str(cell) for cell in factors(apart, ["x", "xo", "xo"])]
+['x', 'o', 'xo']
+>>> best = Best(apart, 2)
+>>> [best.lets(pair[0]), best.lets(Rule(values, ["o", "xo"], 1, "x")), list(best.strikes(line)), str(best(line))]
+[True, False, [(0, 'x'), (2, 'x')], 'o x o xo']
+>>> list(Best(apart, 1).strikes(line))
+[]
+"""
+
+WIDTHS = """
+>>> from linestrikes.widths import least_width, verdicts
+>>> even = Modulo(values, "x", 2)
+>>> [least_width(apart), least_width(even, 3), [str(one.line) for one in verdicts(even, 2)]]
+[2, None, ['x o', 'x x x']]
+"""
+
+GIVENS = """
+>>> from linestrikes.check_givens import shows_givens
+>>> from linestrikes.givens import asked, givens
+>>> found = givens(pair, "oxo")
+>>> [found.chosen, [str(one) for one in found.lines], str(asked(values, "oxo", found.chosen))]
+[(1,), ['xo xo xo'], 'xo x xo']
+>>> [givens(pair, "ooo").chosen, shows_givens(pair, "oxo", (1,), [Line(values, ["xo", "x", "xo"])])]
+[(0, 1, 2), False]
+>>> givens(pair, "xx")
+raises NotStable()
+"""
+
+GUESS = """
+>>> from linestrikes.guess import Search, probed
+>>> search = Search(pair, line)
+>>> [list(search.words()), search.taken_back, str(probed(pair, line))]
+[['oxox', 'oxoo'], 0, 'o x o xo']
+"""
+
+TEXTS = r"""
+>>> from linestrikes.kinds import Ends
+>>> from linestrikes.reader import read, read_book, read_clue, read_line
+>>> from linestrikes.texts import write_book, write_clue, write_line, write_trail
+>>> write_line(line)
+'line xo\ncells xo x xo xo'
+>>> write_book(pair).split("\n")
+['book xo', 'rule x xo strike x at 1', 'rule xo x strike x at 0']
+>>> write_clue(apart).split("\n")
+['clue xo', 'machine', 'yes 1 0', 'yes 2 0', 'no 2 2']
+>>> read_clue("clue xo\nneighbours xo ox oo\nnot ends x x") == apart - Ends(values, "x", "x")
+True
+>>> write_trail(values, ((0, 1), (1, 0)), read_line("line xo\ncells o x o xo")).split("\n")
+['trail xo', 'strike 0 1', 'strike 1 0', 'left o x o xo']
+>>> read_line("line xo\ncells xo ox")
+raises BadText(1, 2)
+>>> read_book("book xo\nrule x xo strike x")
+raises BadText(1, 5)
+>>> read("clue xo")
+raises BadText(1, 0)
+"""
+
+DESK = """
+>>> from linestrikes.desk import Desk
+>>> desk = Desk()
+>>> desk.run("strike", "values xo", "clue neighbours xo ox oo", "rule x xo strike x at 1", "line xo x xo", "strike", "should", "back", "set 0 x", "strike")
+['no values', 'ok', 'ok', 'ok', 'ok', 'left xo x o', 'left o x o', 'ok', 'ok', 'clash at 1 by 0 at 0']
+>>> desk.run("complete", "best 2", "rule xo x strike x at 0", "sound", "givens oxo", "width")
+['leaves x at 0 of xo x', 'complete 24', 'ok', 'sound', '1', '2']
+>>> desk("set 0  x")
+raises BadSay(2)
+"""
+
+SECTIONS = [VALUES, LINES, KINDS, RULES, BOOKS, TRAILS, STABLE, SUPPORTS, SOUND, COMPLETE, COMPARE, BEST, WIDTHS, GIVENS,
+            GUESS, TEXTS, DESK]

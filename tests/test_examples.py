@@ -12,6 +12,13 @@ class Examples(unittest.TestCase):
             with self.subTest(text.strip().split("\n")[0]):
                 self.assertEqual(run_examples(text, names), [])
 
+    def test_no_example_of_the_document_is_left_out(self):
+        path = pathlib.Path(__file__).resolve().parent.parent.parent / "shared" / "DOC.md"
+        if not path.is_file():
+            self.skipTest("the document is not here")
+        blocks = [block.partition("\n")[2].strip() for block in path.read_text(encoding="utf-8").split("```")[1::2]]
+        self.assertEqual([block for block in blocks if ">>> " in block], [text.strip() for text in SECTIONS])
+
     def test_examples_of_the_readme(self):
         text = (pathlib.Path(__file__).resolve().parent.parent / "README.md").read_text(encoding="utf-8")
         blocks = [block.partition("\n")[2] for block in text.split("```")[1::2]]

@@ -76,6 +76,9 @@ class Interface(unittest.TestCase):
             ("sound", "Sound"): "__init__", ("sound", "Unsound"): "__init__",
             ("complete", "Complete"): "__init__", ("complete", "Incomplete"): "__init__", ("complete", "Exact"): "__init__",
             ("compare", "Stronger"): "__init__", ("compare", "Parted"): "__init__",
+            ("best", "Best"): "__init__ lets strikes __neg__ __eq__", ("givens", "Givens"): "__init__ __len__ __contains__",
+            ("guess", "Search"): "__init__ words taken_back",
+            ("desk", "Desk"): "__init__ __call__ say run line_copy",
         }
         for (stem, name), methods in told.items():
             module = __import__(f"linestrikes.{stem}", fromlist=[name])
@@ -101,6 +104,15 @@ class Interface(unittest.TestCase):
                                "shows_exact(striker, clue, thing)"],
             "compare": ["judge_stronger(one, other, *, most=4000)", "parting(one, other, *, most=4000)",
                         "alike(one, other, *, most=4000)", "needless(book)", "trimmed(book)", "keepers(book)"],
+            "check_compare": ["shows_stronger(one, other, thing)", "shows_parted(one, other, thing)",
+                              "shows_trimmed(book, rows, lines)"],
+            "best": ["factors(clue, cells, *, left=False, right=False)"],
+            "widths": ["verdicts(clue, most_width=4, *, most=4000)", "least_width(clue, most_width=4, *, most=4000)"],
+            "givens": ["asked(values, word, places)", "givens(striker, word)"],
+            "check_givens": ["shows_givens(striker, word, places, lines)"],
+            "guess": ["probed(striker, line)"],
+            "texts": ["write_line(line)", "write_book(book)", "write_clue(clue)", "write_trail(values, strikes, left)"],
+            "reader": ["read_line(text)", "read_book(text)", "read_clue(text)", "read_trail(text)", "read(text)"],
         }
         for stem, headings in told.items():
             for heading in headings:
