@@ -28,7 +28,7 @@ class Examples(unittest.TestCase):
             if block.startswith(">>> "):
                 self.assertEqual(run_examples(block, names), [])
                 many += 1
-        self.assertEqual(many, 2)
+        self.assertEqual(many, 4)
 
     def test_a_wrong_example_is_found(self):
         self.assertEqual(len(run_examples(">>> 1 + 1\n3\n>>> 2\n2\n>>> True\n1", {})), 2)

@@ -18,12 +18,17 @@ PAIR = Book(XO, BEHIND, -BEHIND)
 EMPTY = Book(XO)
 
 
+KNOWN = {}
+
+
 def slow_left(striker):
     """Tells the texts of the cells that are left, None with a clash."""
     if isinstance(striker, Book):
         return lambda line: struck_by_hand(striker, line)[1]
-    slow = SlowBest(striker.clue, striker.width)
-    return lambda line: slow.followed(line)[1]
+    if id(striker) not in KNOWN:
+        # The striker is kept, so that its id is not that of another one.
+        KNOWN[id(striker)] = striker, SlowBest(striker.clue, striker.width)
+    return lambda line: KNOWN[id(striker)][1].followed(line)[1]
 
 
 def asked_by_hand(values, word, places):
