@@ -57,7 +57,8 @@ class Best(Striker):
         found = 0
         for start in range(max(0, place - many + 1), min(place, len(numbers) - many) + 1):
             end = start + many
-            found |= self.struck_within(tuple(numbers[start:end]), start == 0, end == len(numbers))[place - start]
+            struck = self.struck_within(tuple(numbers[start:end]), start == 0, end == len(numbers))
+            found = found | struck[place - start]
         return [letter for k, letter in enumerate(self.alphabet.letters) if (found >> k) & 1]
 
     def struck_within(self, numbers, is_start, is_end):

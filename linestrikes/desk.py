@@ -241,10 +241,10 @@ class Desk:
         """Carries out a line, and returns the answer."""
         try:
             return self.answer(Cursor(0, line))
-        except BadText as error:
-            raise BadSay(error.word) from None
-        except Clash as error:
-            return f"clash at {error.place}"
+        except BadText as wrong:
+            raise BadSay(wrong.word) from None
+        except Clash as clash:
+            return f"clash at {clash.place}"
         except BadBook:
             return "refused BadBook"
         except BadClue:

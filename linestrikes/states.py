@@ -31,7 +31,7 @@ class StateSets:
             after = self.after_each(number)
             found = 0
             for state in states_of(some):
-                found |= after[state]
+                found = found | after[state]
             self.stepped[key] = found
         return self.stepped[key]
 

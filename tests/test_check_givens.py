@@ -176,6 +176,12 @@ class ShowsGivens(Checks, unittest.TestCase):
             self.exactly(shows_givens(Best(APART, 2), "oxo", (1,), (thing,)), wanted)
             self.exactly(shows_givens(PAIR, "oxo", thing, thing), False)
 
+    def test_the_empty_word(self):
+        # No line has it, so that no line is left of one that is asked for.
+        for striker in (EMPTY, PAIR, Best(APART, 2)):
+            for lines in ((), [], (FREE,), None):
+                self.exactly(shows_givens(striker, "", (), lines), False)
+
     def test_arguments_stay(self):
         lines = [Line.free(XO, 3)]
         self.exactly(shows_givens(PAIR, "oxo", (1,), lines), True)

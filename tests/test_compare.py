@@ -271,6 +271,12 @@ class Needless(Checks, unittest.TestCase):
         book = Book(ABCD, first, Rule(ABCD, ["b", "b"], 0, "b"), Rule(ABCD, ["b", "b", "b"], 0, "b"))
         for ask in (needless, trimmed, keepers):
             self.raises(TooMany("stands", 4000), ask, book)
+        # The empty book parts from this one at lines of four cells, but the other way has too many stands.
+        book = Book(ABCD, Rule(ABCD, ["a"] * 4, 0, "a"))
+        self.exactly(judge_stronger(Book(ABCD), book).paper(), ("parted", (1, 1, 1, 1)))
+        for ask in (needless, trimmed):
+            self.raises(TooMany("stands", 4000), ask, book)
+        self.raises(TooMany("stands", 4000), alike, book, Book(ABCD))
 
 
 if __name__ == "__main__":
