@@ -92,7 +92,7 @@ def spoiled_word(clue, rules):
     A node (number, phase, state) stands for a rule, how many letters of its window were read, and the state. Words
     are gone through in order, but only those that come to a new node: what comes to an old one has been had sooner.
     """
-    start = [(number, 0, 0) for number in range(len(rules))]
+    start = tuple([(number, 0, 0) for number in range(len(rules))])
     seen = {node: True for node in start}
     words = [("", start)]
     at = 0
@@ -108,7 +108,8 @@ def spoiled_word(clue, rules):
                         seen[after] = True
                         fresh.append(after)
             if fresh:
-                words.append((word + letter, fresh))
+                # The nodes of a word are walked later on, so they are no list that grows.
+                words.append((word + letter, tuple(fresh)))
         at += 1
     return None
 

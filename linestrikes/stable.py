@@ -51,11 +51,12 @@ def stable_rows(striker, numbers):
     rows = [((), NO_CELLS, True)]
     for number in numbers:
         parts = cells_within(number)
-        longer = []
-        for row, tail, _ in rows:
-            struck, struck_at_end = windows.behind(tail)
-            room = tails.room_behind(tail)
-            longer.extend([((*row, part), room + tails.digit_of(part), not struck_at_end[part])
-                           for part in parts if not struck[part]])
-        rows = longer
+        rows = [longer for row, tail, _ in rows for longer in rows_behind(windows, tails, row, tail, parts)]
     return [row for row, _, may_end in rows if may_end]
+
+
+def rows_behind(windows, tails, row, tail, parts):
+    """The row with each of some cells that strikes nothing, with its tail and whether the line may end there."""
+    struck, struck_at_end = windows.behind(tail)
+    room = tails.room_behind(tail)
+    return [((*row, part), room + tails.digit_of(part), not struck_at_end[part]) for part in parts if not struck[part]]

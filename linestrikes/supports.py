@@ -91,7 +91,8 @@ def heads_along(clue, numbers):
     for number in numbers:
         ahead = rows[-1]
         row = {}
-        for state in ahead:
+        # The dict that grows is walked for the next cell, so what is walked here is a list of its own.
+        for state in list(ahead):
             for letter, after in letters_from(clue, state, number):
                 row.setdefault(after, ahead[state] + letter)
         rows.append(row)

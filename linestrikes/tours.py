@@ -14,7 +14,7 @@ def tour(stands, most):
     """
     seen = {stands.first_stand: True}
     cores = {}
-    fresh = [(0, stands.first_stand)]
+    fresh = ((0, stands.first_stand),)
     rounds_of_keys = []
     while fresh:
         keys, fresh = next_round(stands, fresh, seen, cores)
@@ -28,7 +28,7 @@ def tour(stands, most):
 
 
 def next_round(stands, fresh, seen, cores):
-    """The ascending keys of the lines that are the first ones to come to new stands, and these stands.
+    """The ascending keys of the lines that are the first ones to come to new stands, and the tuple of these stands.
 
     Each stand stands in a pair behind the index of the key of its line. They are put to those that were seen, and the
     cores that are gone on with to the cores.
@@ -48,7 +48,8 @@ def next_round(stands, fresh, seen, cores):
                         keys.append(key)
                         last = key
                     coming.append((len(keys) - 1, after))
-    return keys, coming
+    # They are walked in the next round, so they are no list that grows.
+    return keys, tuple(coming)
 
 
 def line_behind(rounds_of_keys, key):

@@ -1,11 +1,14 @@
 """Looks at the files of the package for forms that hold of what calls what: L5 Operators, L5 Properties, L25 and L28.
 
+What loops change of what they walk is looked at, too: tests/walks.py tells how.
+
 As tests/language.py, it is narrower than the rules, and takes for called whatever has the name of what is called.
 """
 
 import ast
 
 from tests.language import FOLDER
+from tests.walks import loop_faults
 
 OPERATORS = """__eq__ __str__ __repr__ __len__ __contains__ __bool__ __getitem__ __add__ __sub__ __and__ __or__ __xor__ __neg__
 __invert__""".split()
@@ -18,6 +21,7 @@ def form_faults(folder=FOLDER):
     trees = {path.stem: ast.parse(path.read_text(encoding="utf-8")) for path in sorted(folder.glob("*.py"))}
     found = [f"{stem}.py:{line}: {rule}" for stem, tree in trees.items() for line, rule in base_faults(tree)]
     functions = all_functions(trees)
+    found.extend(f"{stem}.py:{line}: {rule}" for stem, _, function in functions for line, rule in loop_faults(function))
     for stem, function in called_by_operators(functions):
         for line, rule in change_faults(function):
             found.append(f"{stem}.py:{line}: {rule}, in {function.name}, which an operator or a property calls")
